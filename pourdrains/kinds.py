@@ -1,0 +1,53 @@
+"""Kinds of terraces, told by the names of a book, and how scripts leave them."""
+
+from pourdrains.checks import is_lower_and_upper, need_script, need_terrace
+from pourdrains.errors import BadKind, BadNumber
+from pourdrains.hills import need_book, need_hill
+from pourdrains.masks import above_masks, below_masks, closed, lot_of
+from pourdrains.values import is_within
+
+
+def is_kind(book, thing):
+    """Whether any value is a kind for a book."""
+    need_book(book)
+    return is_lower_and_upper(closed(book), thing)
+
+
+def _need_kind(book, kind):
+    if not is_kind(book, kind):
+        raise BadKind(kind)
+
+
+def world_of(book, kind):
+    """The closing of a book with a further terrace of a kind."""
+    need_book(book)
+    _need_kind(book, kind)
+    many, pairs = book
+    below, above = kind
+    further = tuple((name, many) for name in below) + tuple((many, name) for name in above)
+    return closed((many + 1, pairs + further))
+
+
+def standing(book, script, kind):
+    """How a script leaves a terrace of a kind: wet, dry or kept."""
+    need_book(book)
+    need_script(book[0], script)
+    _need_kind(book, kind)
+    below, above = kind
+    left = "kept"
+    for sort, name in script:
+        if sort == "pour" and name in above:
+            left = "wet"
+        if sort == "open" and name in below:
+            left = "dry"
+    return left
+
+
+def kind_in(hill, names, terrace):
+    """The kind, told by the names below a number, that a terrace of a hill has."""
+    need_hill(hill)
+    if not is_within(names, 1, hill[0]):
+        raise BadNumber(names)
+    need_terrace(hill[0], terrace)
+    named = (1 << names) - 1
+    return lot_of(below_masks(hill)[terrace] & named), lot_of(above_masks(hill)[terrace] & named)
