@@ -8,7 +8,7 @@ of a book can be checked likewise.
 from pourdrains.errors import BadCouple, BadDeed, BadLot, BadNumber, BadPrices, BadScript
 from pourdrains.errors import BadTerrace, BadWater
 from pourdrains.masks import above_masks, below_masks, is_shut, mask_of
-from pourdrains.values import has_items, is_ascending, is_integer, is_within
+from pourdrains.things import has_items, is_ascending, is_integer, is_within
 
 MOST_PRICE = 1000
 

@@ -2,7 +2,7 @@
 
 from pourdrains.errors import BadBook, BadHill, BadNames
 from pourdrains.masks import above_masks, closed, just_above_mask, pond_masks
-from pourdrains.values import has_items, is_ascending, is_within
+from pourdrains.things import has_items, is_ascending, is_integer, is_within
 
 MOST_TERRACES = 10
 
@@ -82,7 +82,7 @@ def led_hill(hill, names):
 def _is_renaming(many, thing):
     if not has_items(thing, many):
         return False
-    return all(is_within(name, 0, many - 1) for name in thing) and sorted(thing) == list(range(many))
+    return all(is_integer(name) for name in thing) and sorted(thing) == list(range(many))
 
 
 def beside(one, other):

@@ -4,7 +4,7 @@ from pourdrains.checks import is_lower_and_upper, need_script, need_terrace
 from pourdrains.errors import BadKind, BadNumber
 from pourdrains.hills import need_book, need_hill
 from pourdrains.masks import above_masks, below_masks, closed, lot_of
-from pourdrains.values import is_within
+from pourdrains.things import is_within
 
 
 def is_kind(book, thing):
@@ -14,7 +14,7 @@ def is_kind(book, thing):
 
 
 def _need_kind(book, kind):
-    if not is_kind(book, kind):
+    if not is_lower_and_upper(closed(book), kind):
         raise BadKind(kind)
 
 

@@ -4,7 +4,7 @@ from pourdrains.checks import is_lot_of, is_lower_of, is_terrace_of, is_upper_of
 from pourdrains.hills import need_hill
 from pourdrains.masks import above_masks, below_masks, highest_of, just_above_mask, lot_of, lower_masks
 from pourdrains.masks import lowest_of, mask_of, pond_masks, union_of
-from pourdrains.values import has_items
+from pourdrains.things import has_items
 
 
 def is_lot(hill, thing):

@@ -16,13 +16,13 @@ def goal_of(couple):
 def let_moves(hill, couple, prices):
     """The moves by the deeds that are let at a state."""
     allowed = {"pour": mask_of(couple[0]), "open": mask_of(couple[1])}
-    deeds = [(deed, reach, cost, allowed[deed[0]]) for deed, reach, cost in priced_deeds(hill, prices)]
+    deeds = priced_deeds(hill, prices)
 
     def moves(decided):
         return [
             (deed, cost, decided | reach)
-            for deed, reach, cost, within in deeds
-            if reach & ~(within | decided) == 0
+            for deed, reach, cost in deeds
+            if reach & ~(allowed[deed[0]] | decided) == 0
         ]
 
     return moves

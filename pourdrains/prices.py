@@ -7,7 +7,7 @@ from pourdrains.hills import need_hill
 from pourdrains.making import goal_of, least_making, let_moves, making_script, making_ways
 from pourdrains.masks import lot_of, mask_of
 from pourdrains.searches import bounds, cheapest_ways, deeds_back, read_table
-from pourdrains.values import has_items
+from pourdrains.things import has_items
 
 
 def _need_making(hill, couple, prices):

@@ -6,7 +6,7 @@ and the state to which it leads. No price is below 1.
 
 from heapq import heappop, heappush
 
-from pourdrains.values import has_items, is_ascending, is_integer
+from pourdrains.things import has_items, is_ascending, is_integer
 
 
 def cheapest_ways(first, moves):

@@ -152,6 +152,27 @@ class CheapestHolds(Case):
         self.same(told.cheapest_holds(step, couple, even, 0, ("table", more)), True)
         self.same(told.cheapest_holds(step, couple, even, 0, ("table", ((), 0) + more)), False)
 
+    def test_lots_that_are_not_of_the_couple(self):
+        step, even = (2, ((0, 1),)), ((1, 1), (1, 1))
+        right = (((), 0), ((0,), 1))
+        more = right + (((0, 1), 1), ((1,), 0))
+        self.same(told.cheapest_holds(step, ((0,), ()), even, 0, ("table", right)), True)
+        self.same(plain.made_holds(step, ((0,), ()), even, 0, ("table", more)), False)
+        self.same(told.cheapest_holds(step, ((0,), ()), even, 0, ("table", more)), False)
+
+    def test_a_lot_twice(self):
+        one, even = (1, ()), ((1,), (1,))
+        for rows, wanted in [
+            ((((), 0), ((0,), 1)), True),
+            ((((), 0), ((0,), 0), ((0,), 1)), False),
+            ((((), 0), ((0,), 1), ((0,), 2)), False),
+            ((((), 0), ((), 1), ((0,), 1)), False),
+            ((((), 0), ((), 0), ((0,), 1)), False),
+            ((((0,), 1), ((), 0)), False),
+        ]:
+            self.same(told.cheapest_holds(one, ((0,), ()), even, 0, ("table", rows)), wanted, rows)
+            self.same(told.led_holds(one, (), (0,), even, 0, ("table", rows)), wanted, rows)
+
     def test_all_tables(self):
         step, even, couple = (2, ((0, 1),)), ((1, 1), (1, 1)), ((0,), (1,))
         for numbers in product((None, 0, 1, 2, 3), repeat=4):
