@@ -5,7 +5,7 @@ is enough to tell, it is passed in the place of the hill, so that the names
 of a book can be checked likewise.
 """
 
-from pourdrains.errors import BadCouple, BadDeed, BadLot, BadNumber, BadPrices, BadScript
+from pourdrains.errors import BadCouple, BadDeed, BadKind, BadLot, BadNumber, BadPrices, BadScript
 from pourdrains.errors import BadTerrace, BadWater
 from pourdrains.masks import above_masks, below_masks, is_shut, mask_of
 from pourdrains.things import has_items, is_ascending, is_integer, is_within
@@ -96,6 +96,12 @@ def need_script(many, script):
     """Raise BadScript for what is no script at so many terraces."""
     if not is_script_of(many, script):
         raise BadScript(script)
+
+
+def need_kind(hill, kind):
+    """Raise BadKind for what is no kind for a book with this closing."""
+    if not is_lower_and_upper(hill, kind):
+        raise BadKind(kind)
 
 
 def need_prices(many, prices):

@@ -23,16 +23,21 @@ def wet_behind(water, deed, reach):
     return water & ~reach
 
 
+def couple_behind(couple, deed, reach):
+    """The couple of a script with a couple and a deed with a reach behind it."""
+    wet, dry = couple
+    if deed[0] == "pour":
+        return wet | reach, dry & ~reach
+    return wet & ~reach, dry | reach
+
+
 def couple_masks(hill, script):
     """The couple of a script."""
     reached = reaches(hill)
-    wet, dry = 0, 0
+    couple = 0, 0
     for deed in script:
-        if deed[0] == "pour":
-            wet, dry = wet | reached[deed], dry & ~reached[deed]
-        else:
-            wet, dry = wet & ~reached[deed], dry | reached[deed]
-    return wet, dry
+        couple = couple_behind(couple, deed, reached[deed])
+    return couple
 
 
 def priced_deeds(hill, prices):

@@ -2,7 +2,7 @@
 
 from pourdrains.errors import BadBook, BadHill, BadNames
 from pourdrains.masks import above_masks, closed, just_above_mask, pond_masks
-from pourdrains.things import has_items, is_ascending, is_integer, is_within
+from pourdrains.things import are_pairs_of, has_items, is_integer, is_within
 
 MOST_TERRACES = 10
 
@@ -17,16 +17,7 @@ def is_book(thing):
     if not has_items(thing, 2):
         return False
     many, pairs = thing
-    if not is_within(many, 1, MOST_TERRACES) or not isinstance(pairs, tuple):
-        return False
-    return all(_is_pair(many, pair) for pair in pairs) and is_ascending(pairs)
-
-
-def _is_pair(many, thing):
-    if not has_items(thing, 2):
-        return False
-    a, b = thing
-    return is_within(a, 0, many - 1) and is_within(b, 0, many - 1) and a != b
+    return is_within(many, 1, MOST_TERRACES) and are_pairs_of(many, pairs)
 
 
 def _is_closed(book):
@@ -43,6 +34,12 @@ def need_hill(hill):
 def need_book(book):
     """Raise BadBook for what is no book."""
     if not is_book(book):
+        raise BadBook(book)
+
+
+def need_small_book(book, most):
+    """Raise BadBook for what is no book, and for one of more names than most."""
+    if not is_book(book) or book[0] > most:
         raise BadBook(book)
 
 

@@ -1,9 +1,10 @@
 """Kinds of terraces, told by the names of a book, and how scripts leave them."""
 
-from pourdrains.checks import is_lower_and_upper, need_script, need_terrace
-from pourdrains.errors import BadKind, BadNumber
+from pourdrains.checks import is_lower_and_upper, need_kind, need_script, need_terrace
+from pourdrains.errors import BadNumber
 from pourdrains.hills import need_book, need_hill
 from pourdrains.masks import above_masks, below_masks, closed, lot_of
+from pourdrains.standings import standing_of
 from pourdrains.things import is_within
 
 
@@ -13,15 +14,10 @@ def is_kind(book, thing):
     return is_lower_and_upper(closed(book), thing)
 
 
-def _need_kind(book, kind):
-    if not is_lower_and_upper(closed(book), kind):
-        raise BadKind(kind)
-
-
 def world_of(book, kind):
     """The closing of a book with a further terrace of a kind."""
     need_book(book)
-    _need_kind(book, kind)
+    need_kind(closed(book), kind)
     many, pairs = book
     below, above = kind
     further = tuple((name, many) for name in below) + tuple((many, name) for name in above)
@@ -32,15 +28,8 @@ def standing(book, script, kind):
     """How a script leaves a terrace of a kind: wet, dry or kept."""
     need_book(book)
     need_script(book[0], script)
-    _need_kind(book, kind)
-    below, above = kind
-    left = "kept"
-    for sort, name in script:
-        if sort == "pour" and name in above:
-            left = "wet"
-        if sort == "open" and name in below:
-            left = "dry"
-    return left
+    need_kind(closed(book), kind)
+    return standing_of(script, kind)
 
 
 def kind_in(hill, names, terrace):

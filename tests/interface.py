@@ -1,7 +1,7 @@
 """The functions of the interface that have landed, and the kind of each parameter."""
 
 from pourdrains import errors
-from tests import plain
+from tests import plain, plain_books, plain_runs
 
 # Each parameter has a kind below; "thing" accepts any value without an error.
 FUNCTIONS = {
@@ -30,6 +30,40 @@ FUNCTIONS = {
     "kinds": """
         is_kind(book,thing) world_of(book,kind) standing(book,script,kind) kind_in(hill,names:count,terrace)
     """,
+    "steps": "stepped(book,script,step) tidy(book,script) is_tidy(book,script)",
+    "alike": """
+        are_alike(book,one:script,other:script) judge_alike(book,one:script,other:script)
+        alike_holds(book,one:script,other:script,thing) judge_never_wetter(book,one:script,other:script)
+        never_wetter_holds(book,one:script,other:script,thing)
+    """,
+    "plans": """
+        is_plan(book,thing) plan_of_hands(book,hands) is_weaving(book,plan,thing) weavings(book,plan)
+        many_weavings(book,plan) woven(book,plan,weaving)
+    """,
+    "certain": """
+        can_be_last(book,plan,kind) judge_certain(book,plan) certain_holds(book,plan,thing) clashes(book,plan)
+        are_waits(book,plan,thing) fewest_waits(book,plan) ends(hill,plan)
+    """,
+    "programs": """
+        is_program(book:book_of_3,thing) grounds(book:book_of_3) run_of(book:book_of_3,program,ground,water)
+        judge_ends(book:book_of_3,program) ends_holds(book:book_of_3,program,thing)
+        judge_always(book:book_of_3,program,wet:lot,dry:lot) always_holds(book:book_of_3,program,wet:lot,dry:lot,thing)
+        judge_programs(book:book_of_3,one:program,other:program)
+        programs_hold(book:book_of_3,one:program,other:program,thing)
+    """,
+    "notes": """
+        is_notes(book:book_of_4,thing) fitting(book:book_of_4,notes) many_fitting(book:book_of_4,notes)
+        judge_pair(book:book_of_4,notes,a:terrace,b:but_2) pair_holds(book:book_of_4,notes,a:terrace,b:but_2,thing)
+        sure_pairs(book:book_of_4,notes) water_now(book:book_of_4,notes) best_look(book:book_of_4,notes)
+    """,
+    "lost": """
+        fewest_lost(book:book_of_4,notes) judge_lost(book:book_of_4,notes,most)
+        lost_holds(book:book_of_4,notes,most,thing)
+    """,
+    "chances": """
+        is_weights(hill,thing) long_share(hill,weights,terrace) long_chances(hill,weights) mean_wait(hill,weights)
+        after_ticks(hill,weights,water,t:most) forgotten_by(hill,weights,t:most)
+    """,
 }
 
 
@@ -44,6 +78,23 @@ def plain_integers(thing):
 def is_water(hill, thing):
     return plain.is_lot(hill[0], thing) and plain.is_lower(hill, thing)
 
+
+def is_book_within(thing, most):
+    return plain.is_book(thing) and thing[0] <= most
+
+
+def is_weights(hill, thing):
+    if type(thing) is not tuple or not thing or not all(type(row) is tuple and len(row) == 2 for row in thing):
+        return False
+    if not all(plain.is_deed(hill[0], deed) and plain.is_int(number) for deed, number in thing):
+        return False
+    deeds = [deed for deed, _ in thing]
+    return all(1 <= number <= 1000 for _, number in thing) and deeds == sorted(set(deeds))
+
+
+# A script and a plan for a book of three names; steps and weavings are right or wrong for these.
+SCRIPT = (("pour", 2), ("open", 0))
+PLAN = ((("pour", 2), ("open", 0), ("pour", 1)), ((0, 2),))
 
 # For each kind: what is wrong is raised with, and whether any value is right, by the hill or book ahead.
 KINDS = {
@@ -61,6 +112,18 @@ KINDS = {
     "prices": (errors.BadPrices, lambda ground, thing: plain.are_prices(ground[0], thing)),
     "most": (errors.BadNumber, lambda ground, thing: plain.is_int(thing) and thing >= 0),
     "count": (errors.BadNumber, lambda ground, thing: plain.is_int(thing) and 1 <= thing <= ground[0]),
+    "step": (errors.BadStep, lambda ground, thing: plain_books.stepped(ground, SCRIPT, thing) is not None),
+    "plan": (errors.BadPlan, lambda ground, thing: plain_books.is_plan(ground[0], thing)),
+    "hands": (errors.BadPlan, lambda ground, thing: plain_books.are_hands(ground[0], thing)),
+    "weaving": (errors.BadWeaving, lambda ground, thing: plain_books.is_weaving(PLAN, thing)),
+    "book_of_3": (errors.BadBook, lambda ground, thing: is_book_within(thing, 3)),
+    "book_of_4": (errors.BadBook, lambda ground, thing: is_book_within(thing, 4)),
+    "program": (errors.BadProgram, lambda ground, thing: plain_runs.is_program(ground[0], thing)),
+    "ground": (errors.BadHill, plain_runs.is_ground),
+    "notes": (errors.BadNotes, lambda ground, thing: plain_runs.is_notes(ground[0], thing)),
+    # A name that is not the name 2 ahead of it.
+    "but_2": (errors.BadTerrace, lambda ground, thing: plain.is_int(thing) and thing in (0, 1)),
+    "weights": (errors.BadWeights, is_weights),
     "thing": (None, lambda ground, thing: True),
 }
 

@@ -1,5 +1,6 @@
 """The words of the document, followed as plainly as can be, to hold the package against."""
 
+from functools import cache
 from itertools import combinations, product
 
 
@@ -137,6 +138,7 @@ def is_script(many, thing):
     return type(thing) is tuple and all(is_deed(many, deed) for deed in thing)
 
 
+@cache
 def reach(hill, deed):
     sort, x = deed
     if sort == "pour":

@@ -5,7 +5,7 @@ import importlib
 
 from pourdrains.errors import HillError
 from tests import plain
-from tests.interface import KINDS, functions
+from tests.interface import KINDS, PLAN, SCRIPT, functions
 from tests.same import Case
 from tests.things import THINGS, changed
 
@@ -21,12 +21,23 @@ RIGHT = {
     "terrace": 2,
     "water": (0, 1),
     "deed": ("open", 1),
-    "script": (("pour", 2), ("open", 0)),
+    "script": SCRIPT,
     "couple": ((1,), (0, 2)),
     "kind": ((0,), (2,)),
     "prices": ((1, 2, 3), (4, 5, 1000)),
     "most": 3,
     "count": 2,
+    "step": ("put", 0, ("pour", 1), 1),
+    "plan": PLAN,
+    "hands": ((("pour", 2),), (), (("open", 0), ("pour", 1))),
+    "weaving": (1, 0, 2),
+    "book_of_3": VEE,
+    "book_of_4": VEE,
+    "program": (("look", 1, 2, 1), ("do", ("pour", 2), 2), ("end",)),
+    "ground": VEE,
+    "notes": (("do", ("open", 1)), ("saw", 1, False)),
+    "but_2": 1,
+    "weights": ((("open", 0), 2), (("pour", 2), 1000)),
     "thing": ("script", (("pour", 2), ("open", 0))),
 }
 

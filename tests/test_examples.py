@@ -51,6 +51,68 @@ PART_4 = r"""
 [True, False, 'dry', 'wet', 'kept']
 >>> [world_of(BOOK, ((0,), (1,))), world_of((2, ()), ((0,), (1,))), kind_in((3, ((0, 1), (0, 2), (2, 1))), 2, 2)]
 [(3, ((0, 1), (0, 2), (2, 1))), (3, ((0, 1), (0, 2), (2, 1))), ((0,), (1,))]
+>>> from pourdrains.steps import is_tidy, stepped, tidy
+>>> [stepped(BOOK, (('pour', 0), ('open', 0), ('pour', 1)), ('strike', 0, 2)), stepped(BOOK, (('pour', 1),), ('put', 0, ('pour', 0), 1)), tidy(BOOK, (('pour', 1), ('pour', 0), ('open', 1), ('open', 0))), is_tidy(BOOK, (('pour', 1), ('open', 1), ('pour', 0)))]
+[(('open', 0), ('pour', 1)), (('pour', 0), ('pour', 1)), (('pour', 1), ('open', 0)), True]
+>>> from pourdrains.alike import alike_holds, are_alike, judge_alike, never_wetter_holds
+>>> [are_alike(BOOK, (('pour', 0), ('pour', 1)), (('pour', 1),)), are_alike(BOOK, (('pour', 0), ('open', 1)), (('open', 1), ('pour', 0))), judge_alike(BOOK, (), (('pour', 0),))[0], judge_alike(BOOK, (('pour', 0),), (('pour', 0),))]
+[True, False, 'parts', ('steps', ())]
+>>> [alike_holds(BOOK, (('pour', 1), ('pour', 0)), (('pour', 1),), ('steps', (('swap', 0), ('strike', 0, 1)))), alike_holds(BOOK, (('pour', 0), ('open', 1)), (('open', 1), ('pour', 0)), ('parts', (0, 1), (0, 1))), never_wetter_holds(BOOK, (('open', 0),), (), ('never',)), never_wetter_holds(BOOK, (), (('open', 0),), ('wetter', (0,), ()))]
+[True, True, True, True]
+>>> stepped(BOOK, (('pour', 0), ('open', 1)), ('swap', 0))
+raises BadStep(('swap', 0))
+"""
+
+PART_5 = r"""
+>>> from pourdrains.plans import is_plan, is_weaving, many_weavings, plan_of_hands, weavings, woven
+>>> BOOK = (2, ((0, 1),))
+>>> HANDS = ((('pour', 0), ('pour', 1)), (('open', 0),))
+>>> PLAN = plan_of_hands(BOOK, HANDS)
+>>> [PLAN, weavings(BOOK, PLAN), many_weavings(BOOK, PLAN), woven(BOOK, PLAN, (0, 2, 1)), is_weaving(BOOK, PLAN, (1, 0, 2)), is_plan(BOOK, ((('pour', 0), ('pour', 1)), ((0, 1), (1, 0))))]
+[((('pour', 0), ('pour', 1), ('open', 0)), ((0, 1),)), ((0, 1, 2), (0, 2, 1), (2, 0, 1)), 3, (('pour', 0), ('open', 0), ('pour', 1)), False, False]
+>>> from pourdrains.certain import are_waits, can_be_last, certain_holds, clashes, ends, fewest_waits, judge_certain
+>>> [can_be_last(BOOK, PLAN, ((0,), (0, 1))), judge_certain(BOOK, PLAN)[0], certain_holds(BOOK, PLAN, ('parts', (0, 1, 2), (2, 0, 1), (0,), (1,))), clashes(BOOK, PLAN), are_waits(BOOK, PLAN, ((1, 2),)), fewest_waits(BOOK, PLAN) in (((1, 2),), ((2, 0),), ((2, 1),))]
+[(1, 2), 'parts', True, ((1, 2),), True, True]
+>>> [ends((2, ((0, 1),)), PLAN), judge_certain(BOOK, plan_of_hands(BOOK, ((('pour', 0),), (('pour', 1),))))]
+[(((), (0, 1)), ((0, 1), ())), ('certain',)]
+"""
+
+PART_6 = r"""
+>>> from pourdrains.programs import always_holds, grounds, judge_ends, judge_programs, programs_hold, run_of
+>>> ONE, HILL = (1, ()), (1, ())
+>>> FILL = (('look', 0, 2, 1), ('do', ('pour', 0), 0), ('end',))
+>>> [grounds(ONE), len(grounds((2, ()))), len(grounds((3, ()))), len(grounds((2, ((0, 1),)))), run_of(ONE, FILL, HILL, ()), judge_ends(ONE, FILL), run_of(ONE, (('do', ('pour', 0), 0),), HILL, ())]
+[((1, ()),), 4, 29, 2, ('ends', (('pour', 0),), (0,)), ('ends', 4), ('round', (('pour', 0),), (('pour', 0),))]
+>>> [always_holds(ONE, FILL, (0,), (), ('closed', ((HILL, 0, ()), (HILL, 0, (0,)), (HILL, 1, ()), (HILL, 2, (0,))))), always_holds(ONE, (('end',),), (0,), (), ('run', HILL, ())), programs_hold(ONE, FILL, (('end',),), ('unlike', HILL, ())), judge_programs(ONE, FILL, (('do', ('pour', 0), 1), ('end',)))[0]]
+[True, True, True, 'alike']
+"""
+
+PART_7 = r"""
+>>> from pourdrains.notes import best_look, fitting, judge_pair, many_fitting, pair_holds, sure_pairs, water_now
+>>> TWO = (2, ())
+>>> SEEN = (('do', ('open', 1)), ('do', ('pour', 0)), ('saw', 1, True))
+>>> [many_fitting(TWO, (('do', ('pour', 0)), ('saw', 1, True))), many_fitting(TWO, SEEN), sure_pairs(TWO, SEEN), judge_pair(TWO, SEEN, 1, 0), judge_pair(TWO, SEEN, 0, 1)[0], water_now(TWO, SEEN), best_look(TWO, ())]
+[8, 5, ((1, 0),), ('sure', True), 'open', ('wet', 'wet'), (0, 6, 6)]
+>>> fitting((1, ()), (('saw', 0, False), ('do', ('pour', 0)), ('saw', 0, True)))
+(((1, ()), ()),)
+>>> from pourdrains.lost import fewest_lost, lost_holds
+>>> ODD = (('saw', 0, True), ('saw', 0, False))
+>>> [fewest_lost((1, ()), ODD), lost_holds((1, ()), ODD, 1, ('put', ((1, ()), (0,)), ((1, ('open', 0)),))), lost_holds((1, ()), ODD, 0, ('put', ((1, ()), (0,)), ()))]
+[1, True, False]
+>>> from pourdrains.notes import sure_pairs
+>>> sure_pairs((1, ()), (('saw', 0, True), ('saw', 0, False)))
+raises NoneFits()
+"""
+
+PART_8 = r"""
+>>> from pourdrains.chances import after_ticks, forgotten_by, long_chances, long_share, mean_wait
+>>> ONE, COIN = (1, ()), ((('open', 0), 1), (('pour', 0), 3))
+>>> STEP, BOTH = (2, ((0, 1),)), ((('open', 1), 1), (('pour', 0), 1))
+>>> [long_share(ONE, COIN, 0), long_chances(ONE, COIN), mean_wait(ONE, COIN), after_ticks(ONE, COIN, (), 1), long_chances(STEP, BOTH), mean_wait(STEP, BOTH), forgotten_by(STEP, BOTH, 2), after_ticks(STEP, BOTH, (0, 1), 1)]
+[(3, 4), (((), (1, 4)), ((0,), (3, 4))), (1, 1), (((), (1, 4)), ((0,), (3, 4))), (((0,), (1, 1)),), (3, 1), (1, 2), (((0,), (1, 2)), ((0, 1), (1, 2)))]
+>>> from pourdrains.chances import long_share
+>>> long_share((2, ()), ((('pour', 0), 1),), 1)
+raises Unreached(1)
 """
 
 
@@ -89,8 +151,20 @@ class Examples(Case):
     def test_part_3(self):
         self.assertEqual(self.hold(PART_3), 2)
 
-    def test_kinds_of_part_4(self):
-        self.assertEqual(self.hold(PART_4), 2)
+    def test_part_4(self):
+        self.assertEqual(self.hold(PART_4), 6)
+
+    def test_part_5(self):
+        self.assertEqual(self.hold(PART_5), 3)
+
+    def test_part_6(self):
+        self.assertEqual(self.hold(PART_6), 2)
+
+    def test_part_7(self):
+        self.assertEqual(self.hold(PART_7), 4)
+
+    def test_chances_of_part_8(self):
+        self.assertEqual(self.hold(PART_8), 2)
 
 
 if __name__ == "__main__":

@@ -4,7 +4,8 @@ from itertools import product
 
 from pourdrains.errors import BadBook, BadKind, BadNumber, BadScript, BadTerrace
 from pourdrains.kinds import is_kind, kind_in, standing, world_of
-from tests import plain
+from tests import plain, plain_books
+from tests.plain_books import kinds_of
 from tests.same import Case
 from tests.test_hills import LINE_10, POND_10
 from tests.test_scripts import long_script
@@ -15,21 +16,10 @@ CHAIN = (6, ((0, 1), (1, 2), (2, 3), (4, 5)))
 RING = (3, ((0, 1), (1, 2), (2, 0)))
 
 
-def kinds_of(book):
-    hill = plain.closing(book)
-    return [(low, high) for low in plain.waters(hill) for high in plain.uppers(hill)]
-
-
 def kind_of(hill, names, terrace):
     low = tuple(name for name in range(names) if plain.leq(hill, name, terrace))
     high = tuple(name for name in range(names) if plain.leq(hill, terrace, name))
     return (low, high)
-
-
-def standing_by_words(script, kind):
-    below, above = kind
-    reached = [sort for sort, name in script if name in (above if sort == "pour" else below)]
-    return {"pour": "wet", "open": "dry"}[reached[-1]] if reached else "kept"
 
 
 class Kinds(Case):
@@ -89,7 +79,7 @@ class Standings(Case):
         for book in BOOKS[:5] + BOOKS[5::6]:
             for script in plain.scripts_of(book, 2) + [long_script(book, 24, stride) for stride in (1, 2, 3)]:
                 for kind in kinds_of(book)[::2]:
-                    self.same(standing(book, script, kind), standing_by_words(script, kind))
+                    self.same(standing(book, script, kind), plain_books.standing(script, kind))
 
     def test_as_a_further_terrace_is_left(self):
         for book in BOOKS[:5] + BOOKS[5::6] + [CHAIN]:
