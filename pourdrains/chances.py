@@ -1,49 +1,29 @@
 """Drawn deeds: what they leave in the long run and behind some ticks, and when the beginning is forgotten."""
 
-from pourdrains.checks import is_deed_of, need_count, need_terrace, need_water
-from pourdrains.deeds import reaches, wet_behind
-from pourdrains.errors import BadWeights, Unreached
+from pourdrains.checks import need_count, need_terrace, need_water
+from pourdrains.deeds import wet_behind
+from pourdrains.drawing import are_weights_of, read_weights, sum_of_weights, weight_within
+from pourdrains.errors import Unreached
 from pourdrains.hills import need_hill
 from pourdrains.masks import lot_of, mask_of
 from pourdrains.shares import part_of, power_of, reduced, sum_of
-from pourdrains.things import has_items, is_ascending, is_within
-
-MOST_WEIGHT = 1000
 
 
 def is_weights(hill, thing):
     """Whether any value is weights."""
     need_hill(hill)
-    if not isinstance(thing, tuple) or not all(_is_weight(hill[0], pair) for pair in thing):
-        return False
-    return len(thing) > 0 and is_ascending([deed for deed, _ in thing])
-
-
-def _is_weight(many, thing):
-    return has_items(thing, 2) and is_deed_of(many, thing[0]) and is_within(thing[1], 1, MOST_WEIGHT)
-
-
-def _read_weights(hill, weights):
-    """All triples of a deed, its reach and its integer."""
-    if not is_weights(hill, weights):
-        raise BadWeights(weights)
-    reached = reaches(hill)
-    return [(deed, reached[deed], weight) for deed, weight in weights]
-
-
-def _sum_of_weights(drawn):
-    return sum(weight for _, _, weight in drawn)
+    return are_weights_of(hill[0], thing)
 
 
 def long_share(hill, weights, terrace):
     """The long-run share of a terrace."""
-    drawn = _read_weights(hill, weights)
+    drawn = read_weights(hill, weights)
     need_terrace(hill[0], terrace)
     reaching = [(deed, reach, weight) for deed, reach, weight in drawn if reach >> terrace & 1]
     if not reaching:
         raise Unreached(terrace)
     pours = [(deed, reach, weight) for deed, reach, weight in reaching if deed[0] == "pour"]
-    return reduced(_sum_of_weights(pours), _sum_of_weights(reaching))
+    return reduced(sum_of_weights(pours), sum_of_weights(reaching))
 
 
 def _need_all_reached(hill, drawn):
@@ -54,7 +34,7 @@ def _need_all_reached(hill, drawn):
 
 def long_chances(hill, weights):
     """The ascending tuple of the waters that can be in the long run, each with its long-run chance."""
-    drawn = _read_weights(hill, weights)
+    drawn = read_weights(hill, weights)
     _need_all_reached(hill, drawn)
     full = (1 << hill[0]) - 1
     # For each mask of terraces that are decided: the wet ones that can be among them, with their chances.
@@ -63,7 +43,7 @@ def long_chances(hill, weights):
     found[0][0] = (1, 1)
     for decided in range(full):
         deciding = [(deed, reach, weight) for deed, reach, weight in drawn if reach & ~decided]
-        bottom = _sum_of_weights(deciding)
+        bottom = sum_of_weights(deciding)
         chances = list(found[decided].items())
         for wet, chance in chances:
             for deed, reach, weight in deciding:
@@ -75,15 +55,15 @@ def long_chances(hill, weights):
 
 def mean_wait(hill, weights):
     """The mean number of ticks until the beginning is forgotten."""
-    drawn = _read_weights(hill, weights)
+    drawn = read_weights(hill, weights)
     _need_all_reached(hill, drawn)
     full = (1 << hill[0]) - 1
-    ticks = _sum_of_weights(drawn)
+    ticks = sum_of_weights(drawn)
     # For each mask of terraces that were reached: the mean number of ticks until all are.
     waits = [(0, 1) for _ in range(full + 1)]
     for mask in range(full - 1, -1, -1):
         further = [(deed, reach, weight) for deed, reach, weight in drawn if reach & ~mask]
-        bottom = _sum_of_weights(further)
+        bottom = sum_of_weights(further)
         wait = reduced(ticks, bottom)
         for _, reach, weight in further:
             wait = sum_of(wait, part_of(waits[mask | reach], weight, bottom))
@@ -93,7 +73,7 @@ def mean_wait(hill, weights):
 
 def after_ticks(hill, weights, water, t):
     """The ascending tuple of the waters that can be behind t ticks from a first one, each with its chance."""
-    drawn = _read_weights(hill, weights)
+    drawn = read_weights(hill, weights)
     need_water(hill, water)
     need_count(t)
     ways = {mask_of(water): 1}
@@ -104,17 +84,16 @@ def after_ticks(hill, weights, water, t):
                 left = wet_behind(wet, deed, reach)
                 led[left] = led.get(left, 0) + number * weight
         ways = led
-    bottom = power_of(_sum_of_weights(drawn), t)
+    bottom = power_of(sum_of_weights(drawn), t)
     return tuple(sorted((lot_of(wet), reduced(number, bottom)) for wet, number in ways.items()))
 
 
 def forgotten_by(hill, weights, t):
     """The chance that the beginning is forgotten behind t ticks."""
-    drawn = _read_weights(hill, weights)
+    drawn = read_weights(hill, weights)
     need_count(t)
     top = 0
     for lot in range(1 << hill[0]):
-        within = _sum_of_weights([(deed, reach, weight) for deed, reach, weight in drawn if reach & ~lot == 0])
         sign = -1 if (hill[0] - len(lot_of(lot))) & 1 else 1
-        top += sign * power_of(within, t)
-    return reduced(top, power_of(_sum_of_weights(drawn), t))
+        top += sign * power_of(weight_within(drawn, lot), t)
+    return reduced(top, power_of(sum_of_weights(drawn), t))

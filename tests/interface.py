@@ -1,9 +1,9 @@
 """The functions of the interface that have landed, and the kind of each parameter."""
 
 from pourdrains import errors
-from tests import plain, plain_books, plain_runs
+from tests import plain, plain_books, plain_grids, plain_heights, plain_runs
 
-# Each parameter has a kind below; "thing" accepts any value without an error.
+# Each parameter has a kind below; one of the kind "thing" accepts any value without an error.
 FUNCTIONS = {
     "hills": """
         is_hill(thing) is_book(thing) closing(book) mirror(hill) is_tree(hill) led_hill(hill,names)
@@ -63,6 +63,23 @@ FUNCTIONS = {
     "chances": """
         is_weights(hill,thing) long_share(hill,weights,terrace) long_chances(hill,weights) mean_wait(hill,weights)
         after_ticks(hill,weights,water,t:most) forgotten_by(hill,weights,t:most)
+    """,
+    "speeds": "convex_lots(hill) speeds(hill,weights) trace_of(hill,weights,t:most)",
+    "heights": """
+        are_heights(hill,h,thing) is_height_script(hill,h,thing) run_heights(hill,h,heights,script:height_script)
+        water_at(hill,h,heights,level) script_at(hill,h,script:height_script,level) tall_hill(hill,h)
+        tall_water(hill,h,heights) tall_deed(hill,h,deed:height_deed)
+        judge_heights_alike(book,h,one:height_script,other:height_script)
+        heights_alike_holds(book,h,one:height_script,other:height_script,thing)
+    """,
+    "grids": """
+        is_point(d,thing) is_tops(d,thing) highest_points(d,points) lowest_points(d,points) poured(d,tops,point)
+        opened(d,tops,point) is_wet(d,tops,point) many_wet(d,tops)
+    """,
+    "staircases": """
+        is_grid_script(d,thing) run_grid(d,tops,script:grid_script) grid_couple(d,script:grid_script)
+        behind_grid(d,first:grid_couple,second:grid_couple) rounds_couple(d,script:grid_script,shift:point,n:rounds)
+        box_of(d,b)
     """,
 }
 
@@ -124,8 +141,26 @@ KINDS = {
     # A name that is not the name 2 ahead of it.
     "but_2": (errors.BadTerrace, lambda ground, thing: plain.is_int(thing) and thing in (0, 1)),
     "weights": (errors.BadWeights, is_weights),
+    "h": (errors.BadNumber, lambda ground, thing: plain.is_int(thing) and 1 <= thing <= 4),
+    # Heights and levels are to 2, points of two directions.
+    "level": (errors.BadNumber, lambda ground, thing: plain.is_int(thing) and 1 <= thing <= 2),
+    "heights": (errors.BadHeights, lambda ground, thing: plain_heights.are_heights(ground, 2, thing)),
+    "height_script": (errors.BadScript, lambda ground, thing: plain_heights.is_height_script(ground[0], 2, thing)),
+    "height_deed": (errors.BadDeed, lambda ground, thing: plain_heights.is_height_deed(ground[0], 2, thing)),
+    "tops": (errors.BadWater, lambda ground, thing: plain_grids.is_tops(2, thing)),
+    "point": (errors.BadPoint, lambda ground, thing: plain_grids.is_point(2, thing)),
+    "grid_script": (errors.BadScript, lambda ground, thing: plain_grids.is_script(2, thing)),
+    "grid_couple": (errors.BadCouple, lambda ground, thing: plain_grids.is_couple(2, thing)),
+    "rounds": (errors.BadNumber, lambda ground, thing: plain.is_int(thing) and 1 <= thing <= 10 ** 30),
+    "b": (errors.BadNumber, lambda ground, thing: plain.is_int(thing) and thing in (0, 1, 2)),
+    # Nothing is promised for another value as d, or as points that are no tuple.
+    "d": (None, lambda ground, thing: True),
+    "points": (None, lambda ground, thing: True),
     "thing": (None, lambda ground, thing: True),
 }
+
+# The kinds of which nothing is wrong.
+FREE = [kind for kind, (error, _) in KINDS.items() if error is None]
 
 
 def read_function(told):

@@ -5,7 +5,7 @@ import importlib
 
 from pourdrains.errors import HillError
 from tests import plain
-from tests.interface import KINDS, PLAN, SCRIPT, functions
+from tests.interface import FREE, KINDS, PLAN, SCRIPT, functions
 from tests.same import Case
 from tests.things import THINGS, changed
 
@@ -38,6 +38,19 @@ RIGHT = {
     "notes": (("do", ("open", 1)), ("saw", 1, False)),
     "but_2": 1,
     "weights": ((("open", 0), 2), (("pour", 2), 1000)),
+    "h": 2,
+    "level": 2,
+    "heights": (2, 1, 1),
+    "height_script": (("pour", 2, 2), ("open", 0, 1)),
+    "height_deed": ("open", 1, 0),
+    "tops": ((0, 3), (2, 1)),
+    "point": (1, 2),
+    "points": ((1, 0), (0, 2), (0, 0)),
+    "grid_script": (("pour", (1, 3)), ("open", (0, 2))),
+    "grid_couple": (((1, 1),), ((0, 2), (3, 0))),
+    "rounds": 10 ** 30,
+    "b": 2,
+    "d": 2,
     "thing": ("script", (("pour", 2), ("open", 0))),
 }
 
@@ -75,7 +88,7 @@ class Conventions(Case):
 
     def test_there_are_wrong_ones(self):
         for kind, things in WRONG.items():
-            self.assertGreater(len(things), 50 if kind != "thing" else -1, kind)
+            self.assertGreater(len(things), 50 if kind not in FREE else -1, kind)
 
     def test_one_wrong_argument(self):
         for function, parameters in all_functions():
@@ -99,9 +112,8 @@ class Conventions(Case):
         for function, parameters in all_functions():
             for thing in THINGS:
                 things = [thing] * len(parameters)
-                if self.wanted(parameters, things)[0] is not None and parameters[0][1] != "thing":
-                    if not KINDS[parameters[0][1]][1](VEE, thing):
-                        self.hold(function, parameters, things)
+                if not KINDS[parameters[0][1]][1](VEE, thing):
+                    self.hold(function, parameters, things)
 
     def test_any_value_behind_what_is_right(self):
         for function, parameters in all_functions():
@@ -131,7 +143,7 @@ class Conventions(Case):
     def test_nothing_that_is_passed_is_changed(self):
         passed = [[0, 1], {0: [1]}, (2, [[0, 1]]), ([("pour", 0)], {}), [((), 0)], ("table", [((), 0)])]
         for function, parameters in all_functions():
-            for at in range(len(parameters)):
+            for at in range(parameters[0][1] == "d", len(parameters)):
                 for thing in copy.deepcopy(passed):
                     things = [RIGHT[kind] for _, kind in parameters]
                     things[at] = thing
@@ -142,7 +154,7 @@ class Conventions(Case):
     def test_the_same_error_again(self):
         for function, parameters in all_functions():
             for thing in ([], None, {"a": []}):
-                things = [thing] * len(parameters)
+                things = [2 if kind == "d" else [thing] if kind == "points" else thing for _, kind in parameters]
                 self.assertEqual(self.call(function, things), self.call(function, things))
 
     def call(self, function, things):
@@ -156,7 +168,7 @@ class Conventions(Case):
         self.assertFalse(plain.is_hill((True, ())))
         for function, parameters in all_functions():
             things = [with_bools(RIGHT[kind]) for _, kind in parameters]
-            if parameters[0][1] != "thing":
+            if parameters[0][1] not in FREE:
                 self.hold(function, parameters, [(1, ((False, True),))] + things[1:])
 
 

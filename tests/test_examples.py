@@ -110,9 +110,37 @@ PART_8 = r"""
 >>> STEP, BOTH = (2, ((0, 1),)), ((('open', 1), 1), (('pour', 0), 1))
 >>> [long_share(ONE, COIN, 0), long_chances(ONE, COIN), mean_wait(ONE, COIN), after_ticks(ONE, COIN, (), 1), long_chances(STEP, BOTH), mean_wait(STEP, BOTH), forgotten_by(STEP, BOTH, 2), after_ticks(STEP, BOTH, (0, 1), 1)]
 [(3, 4), (((), (1, 4)), ((0,), (3, 4))), (1, 1), (((), (1, 4)), ((0,), (3, 4))), (((0,), (1, 1)),), (3, 1), (1, 2), (((0,), (1, 2)), ((0, 1), (1, 2)))]
+>>> from pourdrains.speeds import convex_lots, speeds, trace_of
+>>> [convex_lots((3, ((0, 1), (0, 2), (1, 2)))), speeds(ONE, COIN), speeds(STEP, BOTH), trace_of(STEP, BOTH, 1)]
+[((), (0,), (0, 1), (0, 1, 2), (1,), (1, 2), (2,)), (((0, 1), 1), ((1, 1), 1)), (((1, 2), 2), ((1, 1), 1)), (2, 1)]
 >>> from pourdrains.chances import long_share
 >>> long_share((2, ()), ((('pour', 0), 1),), 1)
 raises Unreached(1)
+"""
+
+PART_9 = r"""
+>>> from pourdrains.heights import are_heights, heights_alike_holds, judge_heights_alike, run_heights, script_at, tall_deed, tall_hill, tall_water, water_at
+>>> FORK = (3, ((0, 2), (1, 2)))
+>>> [are_heights(FORK, 2, (2, 1, 1)), are_heights(FORK, 2, (0, 1, 1)), run_heights(FORK, 2, (2, 0, 0), (('pour', 2, 1), ('open', 0, 0))), water_at(FORK, 2, (2, 1, 1), 2), script_at(FORK, 2, (('pour', 2, 1), ('open', 0, 0), ('open', 1, 1)), 2)]
+[True, False, (0, 1, 0), (0,), (('open', 0), ('open', 1))]
+>>> [tall_hill((2, ((0, 1),)), 2), tall_water((2, ((0, 1),)), 2, (2, 1)), tall_deed((2, ((0, 1),)), 2, ('open', 0, 1))]
+[(4, ((0, 1), (0, 2), (0, 3), (1, 3), (2, 3))), (0, 1, 2), ('open', 1)]
+>>> BOOK = (1, ())
+>>> ONE = (('pour', 0, 2), ('open', 0, 0), ('pour', 0, 1), ('open', 0, 1))
+>>> OTHER = (('open', 0, 0), ('pour', 0, 2), ('pour', 0, 1), ('open', 0, 1))
+>>> [judge_heights_alike(BOOK, 2, ONE, OTHER)[0], judge_heights_alike(BOOK, 2, ONE[:2], OTHER[:2])[0], heights_alike_holds(BOOK, 2, ONE[:2], OTHER[:2], ('parts', 2, (0,), (0,)))]
+['levels', 'parts', True]
+"""
+
+PART_10 = r"""
+>>> from pourdrains.grids import highest_points, is_tops, is_wet, many_wet, opened, poured
+>>> [poured(2, ((1, 2),), (3, 0)), opened(2, ((1, 2), (3, 0)), (1, 1)), many_wet(2, ((0, 2), (3, 0))), is_wet(2, ((0, 2), (3, 0)), (1, 1)), is_tops(2, ((0, 0), (1, 1))), highest_points(3, ((0, 0, 1), (0, 2, 1), (1, 0, 0))), many_wet(3, ((1, 1, 1),))]
+[((1, 2), (3, 0)), ((0, 2), (3, 0)), 6, False, False, ((0, 2, 1), (1, 0, 0)), 8]
+>>> from pourdrains.staircases import behind_grid, box_of, grid_couple, rounds_couple, run_grid
+>>> [grid_couple(2, (('pour', (1, 2)), ('open', (1, 1)))), run_grid(2, ((0, 5),), (('pour', (1, 2)), ('open', (1, 1)))), rounds_couple(2, (('pour', (0, 0)), ('open', (1, 1))), (1, 0), 3), behind_grid(2, (((1, 1),), ()), ((), ((0, 1),))), box_of(2, 1)]
+[(((0, 2), (1, 0)), ((1, 1),)), ((0, 5), (1, 0)), (((2, 0),), ((1, 1),)), (((1, 0),), ((0, 1),)), ((4, ((0, 1), (0, 2), (0, 3), (1, 3), (2, 3))), ((0, 0), (0, 1), (1, 0), (1, 1)))]
+>>> rounds_couple(2, (), (0, -1), 1)
+raises BadPoint((0, -1))
 """
 
 
@@ -163,8 +191,14 @@ class Examples(Case):
     def test_part_7(self):
         self.assertEqual(self.hold(PART_7), 4)
 
-    def test_chances_of_part_8(self):
-        self.assertEqual(self.hold(PART_8), 2)
+    def test_part_8(self):
+        self.assertEqual(self.hold(PART_8), 3)
+
+    def test_part_9(self):
+        self.assertEqual(self.hold(PART_9), 3)
+
+    def test_part_10(self):
+        self.assertEqual(self.hold(PART_10), 3)
 
 
 if __name__ == "__main__":

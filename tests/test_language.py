@@ -124,8 +124,13 @@ class Language(unittest.TestCase):
             self.assertNotIsInstance(node.value, (float, complex, bytes), stem)
         for stem, node in nodes((ast.Div, ast.MatMult, ast.Set)):
             self.fail((stem, node))
-        for stem, node in nodes((ast.BinOp, ast.AugAssign)):
+        for stem, node in nodes(ast.AugAssign):
             self.assertNotIsInstance(node.op, ast.Pow, stem)
+
+    def test_l27_exponents(self):
+        for stem, node in nodes(ast.BinOp):
+            if isinstance(node.op, ast.Pow):
+                self.assertIn(ast.literal_eval(node.right), range(65), (stem, node.lineno))
 
     def test_l7_generators_stand_in_calls(self):
         for stem, tree in TREES.items():
