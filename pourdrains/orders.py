@@ -3,7 +3,9 @@
 from pourdrains.checks import is_script_of
 from pourdrains.errors import BadPlan
 from pourdrains.masks import mask_of, union_of
-from pourdrains.things import are_pairs_of, has_items, is_integer
+from pourdrains.things import are_pairs_of, has_items, is_integer, is_within
+
+MOST_HANDS = 4
 
 
 def ahead_masks(many, pairs):
@@ -55,6 +57,14 @@ def need_plan(many, plan):
     """Raise BadPlan for what is no plan at so many names."""
     if not is_plan_of(many, plan):
         raise BadPlan(plan)
+
+
+def need_hands(many, hands):
+    """Raise BadPlan for what is no tuple of 1 to 4 scripts at so many names."""
+    if not isinstance(hands, tuple) or not is_within(len(hands), 1, MOST_HANDS):
+        raise BadPlan(hands)
+    if not all(is_script_of(many, script) for script in hands):
+        raise BadPlan(hands)
 
 
 def is_weaving_of(plan, thing):

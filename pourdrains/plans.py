@@ -1,12 +1,9 @@
 """Plans: deeds of which some are done ahead of others, and all the scripts into which they can be woven."""
 
-from pourdrains.checks import is_script_of
-from pourdrains.errors import BadPlan, BadWeaving
+from pourdrains.errors import BadWeaving
 from pourdrains.hills import need_book
-from pourdrains.orders import ahead_masks, free_positions, is_plan_of, is_weaving_of, need_plan, woven_by
-from pourdrains.things import is_within
-
-MOST_HANDS = 4
+from pourdrains.orders import ahead_masks, free_positions, is_plan_of, is_weaving_of, need_hands, need_plan
+from pourdrains.orders import woven_by
 
 
 def is_plan(book, thing):
@@ -18,20 +15,13 @@ def is_plan(book, thing):
 def plan_of_hands(book, hands):
     """The plan in which each hand does its own script in its order."""
     need_book(book)
-    if not _are_hands(book[0], hands):
-        raise BadPlan(hands)
+    need_hands(book[0], hands)
     deeds, pairs = [], []
     for script in hands:
         first = len(deeds)
         deeds.extend(script)
         pairs.extend([(at, at + 1) for at in range(first, len(deeds) - 1)])
     return tuple(deeds), tuple(pairs)
-
-
-def _are_hands(many, thing):
-    if not isinstance(thing, tuple) or not is_within(len(thing), 1, MOST_HANDS):
-        return False
-    return all(is_script_of(many, script) for script in thing)
 
 
 def is_weaving(book, plan, thing):

@@ -1,7 +1,7 @@
 """The functions of the interface that have landed, and the kind of each parameter."""
 
 from pourdrains import errors
-from tests import plain, plain_books, plain_grids, plain_heights, plain_runs
+from tests import plain, plain_books, plain_grids, plain_heights, plain_maps, plain_runs
 
 # Each parameter has a kind below; one of the kind "thing" accepts any value without an error.
 FUNCTIONS = {
@@ -81,7 +81,28 @@ FUNCTIONS = {
         behind_grid(d,first:grid_couple,second:grid_couple) rounds_couple(d,script:grid_script,shift:point,n:rounds)
         box_of(d,b)
     """,
+    "maps": """
+        is_map(one:hill,other:hill,thing) many_maps(one:hill,other:hill)
+        carried_water(one:hill,other:hill,places,water) pushed_water(one:hill,other:hill,places,water)
+        carried_deed(one:hill,other:hill,places,deed) carried_script(one:hill,other:hill,places,script)
+        judge_single(one:hill,other:hill,places) single_holds(one:hill,other:hill,places,thing)
+    """,
+    "kindred": """
+        kinds_on(hill,names:unlike) least_part(hill,names:unlike) judge_hills(one:hill,other:as_large)
+        hills_hold(one:hill,other:as_large,thing)
+    """,
+    "blame": """
+        deciders(hill,script) needless(hill,script) loose_places(hill,script) meets(hill,script,wishes)
+        are_strikes(hill,script,wishes,thing) fewest_strikes(hill,script,wishes) laid_to(hill,hands,terrace)
+    """,
+    "works": "read_works(text)",
 }
+
+# The methods of works, with the kinds of their parameters.
+METHODS = """
+    hill() water() promises() book_of_deeds() text() undoable() redoable() do(script) would(script) promise(thing)
+    release(thing) raise_pair(a:terrace,b:but_2) undo() redo() copied() is_same(thing)
+"""
 
 
 def is_renaming(many, thing):
@@ -153,6 +174,11 @@ KINDS = {
     "grid_couple": (errors.BadCouple, lambda ground, thing: plain_grids.is_couple(2, thing)),
     "rounds": (errors.BadNumber, lambda ground, thing: plain.is_int(thing) and 1 <= thing <= 10 ** 30),
     "b": (errors.BadNumber, lambda ground, thing: plain.is_int(thing) and thing in (0, 1, 2)),
+    # Maps of the hill into itself.
+    "places": (errors.BadMap, lambda ground, thing: plain_maps.is_map(ground, ground, thing)),
+    "unlike": (errors.BadLot, lambda ground, thing: plain_maps.are_names(ground[0], thing)),
+    "as_large": (errors.BadHill, lambda ground, thing: plain.is_hill(thing) and thing[0] == ground[0]),
+    "wishes": (errors.BadWishes, lambda ground, thing: plain_maps.are_wishes(ground[0], thing)),
     # Nothing is promised for another value as d, or as points that are no tuple.
     "d": (None, lambda ground, thing: True),
     "points": (None, lambda ground, thing: True),
@@ -167,9 +193,14 @@ def read_function(told):
     """The name of a function, and its parameters with their kinds."""
     name, rest = told.rstrip(")").split("(")
     parts = [(part + ":" + part).split(":")[:2] for part in rest.split(",")]
-    return name, [(parameter, kind) for parameter, kind in parts]
+    return name, [(parameter, kind) for parameter, kind in parts if parameter]
 
 
 def functions():
     """All triples: a module's name, a function's name, its parameters with their kinds."""
     return [(module, *read_function(told)) for module, text in FUNCTIONS.items() for told in text.split()]
+
+
+def methods():
+    """All pairs: the name of a method of works, its parameters with their kinds."""
+    return [read_function(told) for told in METHODS.split()]

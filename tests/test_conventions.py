@@ -7,7 +7,7 @@ from pourdrains.errors import HillError
 from tests import plain
 from tests.interface import FREE, KINDS, PLAN, SCRIPT, functions
 from tests.same import Case
-from tests.things import THINGS, changed
+from tests.things import THINGS, WORKS, changed, state_of
 
 VEE = (3, ((0, 2), (1, 2)))
 
@@ -49,6 +49,10 @@ RIGHT = {
     "grid_script": (("pour", (1, 3)), ("open", (0, 2))),
     "grid_couple": (((1, 1),), ((0, 2), (3, 0))),
     "rounds": 10 ** 30,
+    "places": (0, 0, 2),
+    "unlike": (2, 0),
+    "as_large": (3, ((2, 0),)),
+    "wishes": ((0, "dry"), (2, "kept")),
     "b": 2,
     "d": 2,
     "thing": ("script", (("pour", 2), ("open", 0))),
@@ -66,7 +70,7 @@ WRONG = {kind: wrong_of(kind) for kind in KINDS}
 
 def all_functions():
     for module, name, parameters in functions():
-        if name != "read_hill":
+        if parameters[0][0] != "text":
             yield getattr(importlib.import_module("pourdrains." + module), name), parameters
 
 
@@ -150,6 +154,16 @@ class Conventions(Case):
                     ahead = repr(things)
                     self.call(function, things)
                     self.assertEqual(repr(things), ahead)
+
+    def test_works_that_are_passed_are_not_changed(self):
+        ahead = state_of(WORKS)
+        for function, parameters in all_functions():
+            for thing in [WORKS, (WORKS,), (WORKS, WORKS), {"works": [WORKS]}]:
+                for at in range(parameters[0][1] == "d", len(parameters)):
+                    things = [RIGHT[kind] for _, kind in parameters]
+                    things[at] = (thing,) if parameters[at][1] == "points" else thing
+                    self.call(function, things)
+        self.assertEqual(state_of(WORKS), ahead)
 
     def test_the_same_error_again(self):
         for function, parameters in all_functions():

@@ -143,6 +143,43 @@ PART_10 = r"""
 raises BadPoint((0, -1))
 """
 
+PART_11 = r"""
+>>> from pourdrains.maps import carried_deed, carried_water, is_map, judge_single, many_maps, pushed_water
+>>> STEP, FLAT, ONE = (2, ((0, 1),)), (2, ()), (1, ())
+>>> [is_map(STEP, STEP, (0, 0)), is_map(STEP, STEP, (1, 0)), many_maps(STEP, STEP), carried_water(STEP, STEP, (0, 0), (0,)), carried_deed(STEP, STEP, (0, 0), ('pour', 0)), carried_deed(STEP, STEP, (0, 0), ('open', 1)), pushed_water(FLAT, STEP, (1, 0), (0,))]
+[True, False, 3, (0, 1), (('pour', 1),), (), (0, 1)]
+>>> [judge_single(STEP, STEP, (0, 0)), judge_single(FLAT, ONE, (0, 0))[:1], judge_single(STEP, ONE, (0, 0))]
+[('single', (1, 1), (0, -1)), ('wide',), ('single', (1,), (0,))]
+>>> from pourdrains.kindred import hills_hold, judge_hills, kinds_on, least_part
+>>> [kinds_on(STEP, (0,)), least_part((3, ((0, 1), (0, 2))), (0,)), judge_hills(STEP, (2, ((1, 0),))), judge_hills(STEP, FLAT)]
+[(((0,), ()), ((0,), (0,))), (0, 1), ('names', (1, 0)), ('counts', ((1, 2), (2, 1)), ((1, 1), (1, 1)))]
+"""
+
+PART_12 = r"""
+>>> from pourdrains.blame import are_strikes, deciders, fewest_strikes, laid_to, loose_places, meets, needless
+>>> FORK = (3, ((0, 2), (1, 2)))
+>>> SCRIPT = (('pour', 0), ('pour', 2), ('open', 0), ('pour', 1))
+>>> [deciders(FORK, SCRIPT), needless(FORK, SCRIPT), loose_places(FORK, SCRIPT), meets(FORK, SCRIPT, ((0, 'dry'), (1, 'wet'))), fewest_strikes(FORK, SCRIPT, ((0, 'wet'),)), fewest_strikes(FORK, SCRIPT, ((1, 'dry'),))]
+[(2, 3, 2), (0, 1, 3), (0, 2), True, (2,), None]
+>>> [are_strikes(FORK, SCRIPT, ((1, 'kept'),), (1, 3)), laid_to(FORK, ((('pour', 2),), (('open', 0),), (('pour', 1),)), 1), laid_to(FORK, ((('pour', 2),), (('open', 0),)), 0)]
+[True, (0, 2), (0, 1)]
+"""
+
+PART_13 = r"""
+>>> from pourdrains.works import Works, read_works
+>>> FORK = (3, ((0, 2), (1, 2)))
+>>> works = Works(FORK)
+>>> [works.do((('pour', 2),)), works.promise(('wet', 1)), works.do((('open', 0),)), works.water(), works.promises(), works.book_of_deeds()]
+[None, None, None, (1,), (('wet', 1),), (('pour', 2), ('open', 0))]
+>>> [works.would((('open', 1),)), works.text(), works.undo(), works.water(), works.undoable(), works.redoable()]
+[(), 'hill 3\n0 2\n1 2\nwater 1\npromise wet 1', None, (0, 1, 2), 2, 1]
+>>> works.do((('open', 1),))
+raises Broken(('wet', 1))
+>>> from pourdrains.works import read_works
+>>> read_works('hill 2\n0 1\nwater 1')
+raises BadText(at=3)
+"""
+
 
 class Examples(Case):
     def hold(self, text):
@@ -199,6 +236,15 @@ class Examples(Case):
 
     def test_part_10(self):
         self.assertEqual(self.hold(PART_10), 3)
+
+    def test_part_11(self):
+        self.assertEqual(self.hold(PART_11), 3)
+
+    def test_part_12(self):
+        self.assertEqual(self.hold(PART_12), 2)
+
+    def test_part_13(self):
+        self.assertEqual(self.hold(PART_13), 4)
 
 
 if __name__ == "__main__":

@@ -176,9 +176,23 @@ class Language(unittest.TestCase):
                     self.assertIsInstance(right, ast.Constant, (stem, node.lineno))
 
     def test_l25_methods(self):
+        own = {item.name for _, node in nodes(ast.ClassDef) for item in node.body if isinstance(item, ast.FunctionDef)}
+        self.assertEqual(own & set(METHODS), set())
         for stem, node in nodes(ast.Call):
             if isinstance(node.func, ast.Attribute):
-                self.assertIn(node.func.attr, METHODS, (stem, node.lineno))
+                self.assertIn(node.func.attr, own | set(METHODS), (stem, node.lineno))
+
+    def test_l5_l18_classes(self):
+        for stem, node in nodes(ast.ClassDef):
+            methods = [item.name for item in node.body if isinstance(item, ast.FunctionDef)]
+            self.assertEqual(len(methods), len(set(methods)))
+            self.assertLessEqual({name for name in methods if name.startswith("__")}, {"__init__"})
+            stored = {
+                target.attr
+                for target in ast.walk(node)
+                if isinstance(target, ast.Attribute) and isinstance(target.ctx, ast.Store)
+            }
+            self.assertEqual(stored & set(methods), set(), (stem, node.name))
 
     def test_l27_strings(self):
         for stem, node in nodes(ast.Constant):

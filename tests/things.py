@@ -1,8 +1,33 @@
 """Any values: strange ones, and valid ones that were changed at one place."""
 
+from pourdrains.works import Works
+
 
 class Odd:
     """Stands for an object of a class of its own."""
+
+
+def made_works():
+    """Works with a promise, with something to undo and something to do again."""
+    works = Works((2, ((0, 1),)), (0,))
+    works.promise(("wet", 0))
+    works.do((("pour", 1),))
+    works.do((("open", 1),))
+    works.undo()
+    return works
+
+
+def state_of(works):
+    """All that can be read of works."""
+    return (
+        works.hill(),
+        works.water(),
+        works.promises(),
+        works.book_of_deeds(),
+        works.text(),
+        works.undoable(),
+        works.redoable(),
+    )
 
 
 def deep(many):
@@ -11,6 +36,8 @@ def deep(many):
         thing = (thing,)
     return thing
 
+
+WORKS = made_works()
 
 THINGS = [
     None,
@@ -98,9 +125,18 @@ THINGS = [
     deep(8),
     tuple(range(300)),
     Odd(),
+    WORKS,
+    (WORKS,),
+    [WORKS],
+    {"works": WORKS},
+    (WORKS, WORKS),
+    (1, WORKS),
+    (2, ((0, WORKS),)),
+    ("pour", WORKS),
+    ("script", (WORKS,)),
 ]
 
-FEW = [None, True, False, 0, 1, 2, -1, 10 ** 39, "", "pour", "open", (), (0,), (1,), [], {}, ("pour", 0), ((), 1)]
+FEW = [None, True, False, 0, 1, 2, -1, 10 ** 39, "", "pour", "open", (), (0,), (1,), [], {}, ("pour", 0), ((), 1), WORKS]
 
 
 def changed(value, others=THINGS):
